@@ -1,0 +1,72 @@
+// Package dots: a store of dots with a causal context, and how stores are joined.
+package dots
+
+import (
+	"iter"
+	"maps"
+	"slices"
+)
+
+// Store is what lies at dots, and the context: all dots that are known, those
+// too at which nothing lies (any more). Stores are values: none is changed once
+// it is made. The zero Store knows nothing.
+type Store[T any] struct {
+	items map[Dot]T
+	known context
+}
+
+// One is a store that knows one dot, with an item at it.
+func One[T any](d Dot, item T) Store[T] {
+	s := Gone[T](d)
+	s.items[d] = item
+	return s
+}
+
+// Gone is a store that knows dots, with nothing at them.
+func Gone[T any](gone ...Dot) Store[T] {
+	s := Store[T]{items: map[Dot]T{}, known: newContext()}
+	for _, d := range gone {
+		s.known.add(d)
+	}
+	return s
+}
+
+// Join is the store that knows all that the stores know. An item is in it, if it
+// is in each store that knows its dot: who knows the dot and has no item there
+// knows that it has gone.
+func Join[T any](stores ...Store[T]) Store[T] {
+	joined := Gone[T]()
+	for _, s := range stores {
+		joined.known.addAll(s.known)
+		for d, item := range s.items {
+			if !goneInAny(d, stores) {
+				joined.items[d] = item
+			}
+		}
+	}
+	return joined
+}
+
+func goneInAny[T any](d Dot, stores []Store[T]) bool {
+	return slices.ContainsFunc(stores, func(s Store[T]) bool {
+		_, here := s.items[d]
+		return !here && s.known.has(d)
+	})
+}
+
+// Next is the first dot of a replica that the store does not know.
+func (s Store[T]) Next(who int) Dot { return s.known.next(who) }
+
+// Known is how many dots the store knows.
+func (s Store[T]) Known() int { return s.known.size() }
+
+// All goes through the items, in the order of their dots.
+func (s Store[T]) All() iter.Seq2[Dot, T] {
+	return func(yield func(Dot, T) bool) {
+		for _, d := range slices.SortedFunc(maps.Keys(s.items), Dot.compare) {
+			if !yield(d, s.items[d]) {
+				return
+			}
+		}
+	}
+}

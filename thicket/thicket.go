@@ -1,0 +1,124 @@
+// Package thicket: values that many can change at once, and that come together again: see DOC.md.
+package thicket
+
+import (
+	"sync"
+
+	"thicket/api"
+	"thicket/changes"
+	"thicket/replica"
+)
+
+// Cluster is some replicas and the frames between them.
+type Cluster struct {
+	mu       sync.Mutex // held by each call as a whole
+	replicas []*replica.Replica
+}
+
+// New makes a cluster (P3).
+func New(replicas int, room int) (*Cluster, api.Errno) {
+	if replicas < 1 || replicas > api.MaxReplicas || room < 0 || room > api.MaxCap {
+		return nil, api.ErrArg
+	}
+	x := &Cluster{}
+	for i := range replicas {
+		x.replicas = append(x.replicas, replica.New(i))
+	}
+	return x, api.OK
+}
+
+// named: whether numbers are replicas' (P3).
+func (x *Cluster) named(numbers ...int) api.Errno {
+	for _, i := range numbers {
+		if i < 0 || i >= len(x.replicas) {
+			return api.ErrReplica
+		}
+	}
+	return api.OK
+}
+
+// onlyNamed is what a call answers that does nothing yet but look at the
+// replicas it names.
+func (x *Cluster) onlyNamed(numbers ...int) api.Errno {
+	x.mu.Lock()
+	defer x.mu.Unlock()
+	return x.named(numbers...)
+}
+
+// events is how many events the cluster has had: each replica knows its own.
+func (x *Cluster) events() int {
+	n := 0
+	for _, r := range x.replicas {
+		n += r.Made()
+	}
+	return n
+}
+
+// Do changes something at a replica (P4).
+func (x *Cluster) Do(i int, change string) api.Errno {
+	x.mu.Lock()
+	defer x.mu.Unlock()
+	if e := x.named(i); e != api.OK {
+		return e
+	}
+	c, e := changes.Read(change)
+	if e != api.OK {
+		return e
+	}
+	if x.events() >= api.MaxEvents {
+		return api.ErrFull
+	}
+	x.replicas[i].Accept(c)
+	return api.OK
+}
+
+// Ask tells what is at a path (P5).
+func (x *Cluster) Ask(i int, path string) (string, api.Errno) {
+	x.mu.Lock()
+	defer x.mu.Unlock()
+	if e := x.named(i); e != api.OK {
+		return "", e
+	}
+	p, ok := changes.ReadPath(path)
+	if !ok {
+		return "", api.ErrPath
+	}
+	return x.replicas[i].Tell(p), api.OK
+}
+
+// Knows tells how many events a replica knows (P5).
+func (x *Cluster) Knows(i int) (int, api.Errno) {
+	x.mu.Lock()
+	defer x.mu.Unlock()
+	if e := x.named(i); e != api.OK {
+		return 0, e
+	}
+	return x.replicas[i].Knows(), api.OK
+}
+
+// Send makes a frame (P6).
+func (x *Cluster) Send(i int, j int) (int, api.Errno) { return 0, x.onlyNamed(i, j) }
+
+// Frame tells a frame's bytes (P6).
+func (x *Cluster) Frame(f int) (string, api.Errno) { return "", api.OK }
+
+// Deliver lets a frame come to its replica (P6).
+func (x *Cluster) Deliver(f int) (int, api.Errno) { return 0, api.OK }
+
+// Spoil lets a frame come with a bit turned (P7).
+func (x *Cluster) Spoil(f int, bit int) api.Errno { return api.OK }
+
+// Waiting tells how many pieces a replica keeps (P8).
+func (x *Cluster) Waiting(i int) (int, api.Errno) { return 0, x.onlyNamed(i) }
+
+// Tick drops pieces that all others have acknowledged (P8).
+func (x *Cluster) Tick(i int) api.Errno { return x.onlyNamed(i) }
+
+// Crash lets a replica crash and come up again (P9).
+func (x *Cluster) Crash(i int) api.Errno { return x.onlyNamed(i) }
+
+// Tear lets a replica's next write be cut off (P9).
+func (x *Cluster) Tear(i int, bytes int) api.Errno { return x.onlyNamed(i) }
+
+// Wake lets a replica that is down come up again (P9).
+func (x *Cluster) Wake(i int) api.Errno { return x.onlyNamed(i) }
