@@ -97,6 +97,15 @@ func readNumber(text string) (int64, bool) {
 	return n, -api.MaxCount <= n && n <= api.MaxCount
 }
 
+// Text is the change as Read takes it.
+func (c Change) Text() string {
+	text := string(c.Path) + string(rune(c.Action)) + c.Value
+	if c.Action == Count {
+		text += strconv.FormatInt(c.Number, 10)
+	}
+	return text
+}
+
 // IsEffect: the change makes something that can be alive.
 func (c Change) IsEffect() bool {
 	switch c.Action {

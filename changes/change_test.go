@@ -49,6 +49,9 @@ func check(t *testing.T, text string) {
 	if e != api.OK && c != (Change{}) {
 		t.Errorf("Read(%q): an error with %v", text, c)
 	}
+	if e == api.OK && c.Text() != text {
+		t.Errorf("%q told again: %q", text, c.Text())
+	}
 }
 
 // each goes through all texts of up to so many of the pieces.
@@ -99,8 +102,12 @@ func TestReadParts(t *testing.T) {
 		"ma/mb/cx>-1000000": {Path: "ma/mb/cx", Action: Count, Number: -1000000},
 		"ma/mb!":            {Path: "ma/mb", Action: Clear},
 	} {
-		if c, e := Read(text); c != want || e != api.OK {
+		c, e := Read(text)
+		if c != want || e != api.OK {
 			t.Errorf("Read(%q) = %v, %d", text, c, e)
+		}
+		if c.Text() != text {
+			t.Errorf("%q told again: %q", text, c.Text())
 		}
 	}
 }

@@ -1,6 +1,10 @@
 package dots
 
-import "cmp"
+import (
+	"cmp"
+	"maps"
+	"slices"
+)
 
 // Dot names one event: the replica that made it, and the how-many-th of that
 // replica's it is, from 1 on.
@@ -12,6 +16,23 @@ type Dot struct {
 func (d Dot) compare(other Dot) int {
 	return cmp.Or(cmp.Compare(d.Who, other.Who), cmp.Compare(d.Nth, other.Nth))
 }
+
+// Run is dots of one replica without a gap between them: the first, and how many.
+type Run struct {
+	First Dot
+	Many  int
+}
+
+// Dots are those of the run, in order.
+func (r Run) Dots() []Dot {
+	var all []Dot
+	for k := range r.Many {
+		all = append(all, r.at(k))
+	}
+	return all
+}
+
+func (r Run) at(k int) Dot { return Dot{Who: r.First.Who, Nth: r.First.Nth + k} }
 
 // context is a set of dots. A replica's dots mostly come without a gap, so that
 // a count stands for them; only those behind a gap are kept one by one.
@@ -75,4 +96,28 @@ func (c context) addAll(other context) {
 	for d := range other.loose {
 		c.add(d)
 	}
+}
+
+// all is the set's dots, in order.
+func (c context) all() []Dot {
+	all := slices.Collect(maps.Keys(c.loose))
+	for who, count := range c.counts {
+		all = append(all, Run{First: Dot{Who: who, Nth: 1}, Many: count}.Dots()...)
+	}
+	slices.SortFunc(all, Dot.compare)
+	return all
+}
+
+// runs tells the set in as few runs as can be, in order.
+func (c context) runs() []Run {
+	var runs []Run
+	for _, d := range c.all() {
+		last := len(runs) - 1
+		if last >= 0 && runs[last].at(runs[last].Many) == d {
+			runs[last].Many++
+		} else {
+			runs = append(runs, Run{First: d, Many: 1})
+		}
+	}
+	return runs
 }

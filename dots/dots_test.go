@@ -50,6 +50,40 @@ func TestContextWithGaps(t *testing.T) {
 	}
 }
 
+func TestRuns(t *testing.T) {
+	s := Gone[int](Dot{2, 1}, Dot{0, 3}, Dot{0, 1}, Dot{0, 2}, Dot{1, 7}, Dot{0, 5}, Dot{1, 6}, Dot{3, 2})
+	want := []Run{{Dot{0, 1}, 3}, {Dot{0, 5}, 1}, {Dot{1, 6}, 2}, {Dot{2, 1}, 1}, {Dot{3, 2}, 1}}
+	if got := s.Runs(); !slices.Equal(got, want) {
+		t.Errorf("runs: %v", got)
+	}
+	if got := (Store[int]{}).Runs(); len(got) != 0 {
+		t.Errorf("runs of nothing: %v", got)
+	}
+	source := rand.New(rand.NewSource(3))
+	for range 200 {
+		s := some(source)
+		var known []Dot
+		for _, run := range s.Runs() {
+			known = append(known, run.Dots()...)
+		}
+		if again := Of(maps.Collect(s.All()), known...); !reflect.DeepEqual(again, s) {
+			t.Fatalf("%v from its runs and items: %v", s, again)
+		}
+	}
+}
+
+func TestOf(t *testing.T) {
+	items := map[Dot]string{{0, 1}: "a", {1, 2}: "b"}
+	s := Of(items, Dot{0, 1}, Dot{0, 2})
+	if s.Known() != 3 || s.Items() != 2 || !holds(s, Dot{0, 1}) || !holds(s, Dot{1, 2}) || holds(s, Dot{0, 2}) {
+		t.Errorf("of two items and a dot: %v", s)
+	}
+	delete(items, Dot{0, 1})
+	if !holds(s, Dot{0, 1}) {
+		t.Errorf("it shares what it was made of: %v", s)
+	}
+}
+
 func TestZeroStore(t *testing.T) {
 	var zero Store[int]
 	if zero.Known() != 0 || zero.Next(4) != (Dot{4, 1}) || len(maps.Collect(zero.All())) != 0 {

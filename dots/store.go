@@ -15,21 +15,25 @@ type Store[T any] struct {
 	known context
 }
 
-// One is a store that knows one dot, with an item at it.
-func One[T any](d Dot, item T) Store[T] {
-	s := Gone[T](d)
-	s.items[d] = item
-	return s
-}
-
-// Gone is a store that knows dots, with nothing at them.
-func Gone[T any](gone ...Dot) Store[T] {
+// Of is a store that knows dots, and has items at some: it knows the dots of
+// these too.
+func Of[T any](items map[Dot]T, known ...Dot) Store[T] {
 	s := Store[T]{items: map[Dot]T{}, known: newContext()}
-	for _, d := range gone {
+	for d, item := range items {
+		s.items[d] = item
+		s.known.add(d)
+	}
+	for _, d := range known {
 		s.known.add(d)
 	}
 	return s
 }
+
+// One is a store that knows one dot, with an item at it.
+func One[T any](d Dot, item T) Store[T] { return Of(map[Dot]T{d: item}) }
+
+// Gone is a store that knows dots, with nothing at them.
+func Gone[T any](gone ...Dot) Store[T] { return Of[T](nil, gone...) }
 
 // Join is the store that knows all that the stores know. An item is in it, if it
 // is in each store that knows its dot: who knows the dot and has no item there
@@ -59,6 +63,12 @@ func (s Store[T]) Next(who int) Dot { return s.known.next(who) }
 
 // Known is how many dots the store knows.
 func (s Store[T]) Known() int { return s.known.size() }
+
+// Items is how many items there are.
+func (s Store[T]) Items() int { return len(s.items) }
+
+// Runs tells the dots that the store knows, in order.
+func (s Store[T]) Runs() []Run { return s.known.runs() }
 
 // All goes through the items, in the order of their dots.
 func (s Store[T]) All() iter.Seq2[Dot, T] {

@@ -6,6 +6,7 @@ import (
 
 	"thicket/changes"
 	"thicket/dots"
+	"thicket/frames"
 	"thicket/values"
 )
 
@@ -39,6 +40,17 @@ func (r *Replica) covered(c changes.Change) []dots.Dot {
 		}
 	}
 	return found
+}
+
+// Send is a frame that brings all that is known here.
+func (r *Replica) Send() frames.Frame {
+	return frames.Frame{From: r.who, Brings: r.known}
+}
+
+// Receive takes what a frame brings, and answers the acknowledgement.
+func (r *Replica) Receive(f frames.Frame) frames.Frame {
+	r.known = dots.Join(r.known, f.Brings)
+	return frames.Frame{From: r.who, Acknowledges: true}
 }
 
 // Tell is what the effects alive here make of a path.

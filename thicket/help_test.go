@@ -56,3 +56,71 @@ func knows(t *testing.T, x *thicket.Cluster, i, want int) {
 		t.Errorf("Knows(%d): %d, %d, want %d", i, n, e, want)
 	}
 }
+
+// send: a frame's number.
+func send(t *testing.T, x *thicket.Cluster, i, j int) int {
+	t.Helper()
+	f, e := x.Send(i, j)
+	if f < 1 || e != api.OK {
+		t.Errorf("Send(%d, %d): %d, %d", i, j, f, e)
+	}
+	return f
+}
+
+// deliver: the number of the acknowledgement.
+func deliver(t *testing.T, x *thicket.Cluster, f int) int {
+	t.Helper()
+	a, e := x.Deliver(f)
+	if e != api.OK {
+		t.Errorf("Deliver(%d): %d, %d", f, a, e)
+	}
+	return a
+}
+
+// sendsInVain: what sending answers that is refused.
+func sendsInVain(t *testing.T, x *thicket.Cluster, i, j int, want api.Errno) {
+	t.Helper()
+	if f, e := x.Send(i, j); f != 0 || e != want {
+		t.Errorf("Send(%d, %d): %d, %d, want %d", i, j, f, e, want)
+	}
+}
+
+// deliversInVain: what delivering answers that is refused.
+func deliversInVain(t *testing.T, x *thicket.Cluster, f int, want api.Errno) {
+	t.Helper()
+	if a, e := x.Deliver(f); a != 0 || e != want {
+		t.Errorf("Deliver(%d): %d, %d, want %d", f, a, e, want)
+	}
+}
+
+func bytesOf(t *testing.T, x *thicket.Cluster, f int) string {
+	t.Helper()
+	s, e := x.Frame(f)
+	if s == "" || e != api.OK {
+		t.Errorf("Frame(%d): %q, %d", f, s, e)
+	}
+	return s
+}
+
+// exchange: frames to and fro, and their acknowledgements.
+func exchange(t *testing.T, x *thicket.Cluster, i, j int) {
+	t.Helper()
+	deliver(t, x, deliver(t, x, send(t, x, i, j)))
+	deliver(t, x, deliver(t, x, send(t, x, j, i)))
+}
+
+// everyToEvery: all send, and then all of it is delivered.
+func everyToEvery(t *testing.T, x *thicket.Cluster, replicas int) {
+	t.Helper()
+	var sent []int
+	for i := range replicas {
+		for j := range replicas {
+			if i != j {
+				sent = append(sent, send(t, x, i, j))
+			}
+		}
+	}
+	for _, f := range sent {
+		deliver(t, x, f)
+	}
+}

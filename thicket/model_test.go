@@ -1,6 +1,7 @@
 package thicket_test
 
 import (
+	"maps"
 	"math/rand"
 	"slices"
 	"strconv"
@@ -8,6 +9,7 @@ import (
 	"testing"
 
 	"thicket/api"
+	"thicket/thicket"
 )
 
 // madeChange is a change and the replica that makes it.
@@ -50,19 +52,52 @@ type event struct {
 type model struct {
 	events []event
 	known  [3]map[int]bool
+	sent   []modelFrame
+}
+
+// modelFrame brings what its sender knew; an acknowledgement knew nothing.
+type modelFrame struct {
+	to   int
+	from int
+	knew map[int]bool
+}
+
+func newModel() *model {
+	return &model{known: [3]map[int]bool{{}, {}, {}}}
 }
 
 func (m *model) do(c madeChange) {
 	at := strings.IndexAny(c.text, "+-^_=>!")
-	e := event{c.text[:at], c.text[at : at+1], c.text[at+1:], map[int]bool{}}
-	for k := range m.known[c.who] {
-		e.saw[k] = true
-	}
-	if m.known[c.who] == nil {
-		m.known[c.who] = map[int]bool{}
-	}
+	e := event{c.text[:at], c.text[at : at+1], c.text[at+1:], maps.Clone(m.known[c.who])}
 	m.known[c.who][len(m.events)] = true
 	m.events = append(m.events, e)
+}
+
+func (m *model) send(i, j int) int {
+	m.sent = append(m.sent, modelFrame{j, i, maps.Clone(m.known[i])})
+	return len(m.sent)
+}
+
+func (m *model) deliver(f int) int {
+	frame := m.sent[f-1]
+	if frame.knew == nil {
+		return 0
+	}
+	maps.Copy(m.known[frame.to], frame.knew)
+	m.sent = append(m.sent, modelFrame{to: frame.from, from: frame.to})
+	return len(m.sent)
+}
+
+// check holds all that a cluster tells against the model.
+func (m *model) check(t *testing.T, x *thicket.Cluster) {
+	t.Helper()
+	for i := range 3 {
+		knows(t, x, i, len(m.known[i]))
+		alive := m.alive(i)
+		for _, path := range modelPaths {
+			tells(t, x, i, path, tellOf(alive, path))
+		}
+	}
 }
 
 func (m *model) covers(d event, k int) bool {
@@ -121,21 +156,64 @@ func tellOf(alive []event, path string) string {
 
 func TestP4P5AsTheWordsSay(t *testing.T) {
 	for seed := range 20 {
-		x, m := cluster(t, 3, 10), model{}
+		x, m := cluster(t, 3, 10), newModel()
 		for k, c := range randomChanges(rand.New(rand.NewSource(int64(seed))), api.MaxEvents) {
 			do(t, x, c.who, c.text)
 			m.do(c)
 			knows(t, x, c.who, len(m.known[c.who]))
-			if k%25 != 24 {
-				continue
-			}
-			for i := range 3 {
-				alive := m.alive(i)
-				for _, path := range modelPaths {
-					tells(t, x, i, path, tellOf(alive, path))
-				}
+			if k%25 == 24 {
+				m.check(t, x)
 			}
 		}
+		if t.Failed() {
+			t.Fatalf("seed %d", seed)
+		}
+	}
+}
+
+// step is a frame sent or delivered at random, at the cluster and the model.
+func (m *model) step(t *testing.T, x *thicket.Cluster, source *rand.Rand) {
+	t.Helper()
+	got, want := 0, 0
+	if f := source.Intn(len(m.sent) + 1); f > 0 && source.Intn(2) == 0 {
+		got, want = deliver(t, x, f), m.deliver(f)
+	} else {
+		i := source.Intn(3)
+		j := (i + 1 + source.Intn(2)) % 3
+		got, want = send(t, x, i, j), m.send(i, j)
+	}
+	if got != want {
+		t.Errorf("frame %d, want %d", got, want)
+	}
+}
+
+// Frames are lost, come late, come twice: each time all is as the section
+// 'Words' has it, of the events that came.
+func TestP6P10AsTheWordsSay(t *testing.T) {
+	for seed := range 60 {
+		source := rand.New(rand.NewSource(int64(seed)))
+		x, m := cluster(t, 3, []int{0, 1, 5, 50}[seed%4]), newModel()
+		for k, c := range randomChanges(source, 150) {
+			do(t, x, c.who, c.text)
+			m.do(c)
+			for range source.Intn(4) {
+				m.step(t, x, source)
+			}
+			if k%10 == 9 {
+				m.check(t, x)
+			}
+		}
+		for range 2 {
+			everyToEvery(t, x, 3)
+		}
+		for i := range 3 {
+			knows(t, x, i, 150)
+			m.known[i] = m.known[0]
+		}
+		for k := range m.events {
+			m.known[0][k] = true
+		}
+		m.check(t, x)
 		if t.Failed() {
 			t.Fatalf("seed %d", seed)
 		}

@@ -2,10 +2,12 @@
 package thicket
 
 import (
+	"strings"
 	"sync"
 
 	"thicket/api"
 	"thicket/changes"
+	"thicket/frames"
 	"thicket/replica"
 )
 
@@ -13,6 +15,14 @@ import (
 type Cluster struct {
 	mu       sync.Mutex // held by each call as a whole
 	replicas []*replica.Replica
+	sent     []sentFrame // the frame of number f at f-1
+}
+
+// sentFrame is on its way: all that is known of it but where it goes to is told
+// by its bytes.
+type sentFrame struct {
+	to    int
+	bytes string
 }
 
 // New makes a cluster (P3).
@@ -97,13 +107,66 @@ func (x *Cluster) Knows(i int) (int, api.Errno) {
 }
 
 // Send makes a frame (P6).
-func (x *Cluster) Send(i int, j int) (int, api.Errno) { return 0, x.onlyNamed(i, j) }
+func (x *Cluster) Send(i int, j int) (int, api.Errno) {
+	x.mu.Lock()
+	defer x.mu.Unlock()
+	if e := x.named(i, j); e != api.OK {
+		return 0, e
+	}
+	if i == j {
+		return 0, api.ErrArg
+	}
+	if x.allSent() {
+		return 0, api.ErrFull
+	}
+	return x.send(j, x.replicas[i].Send()), api.OK
+}
+
+func (x *Cluster) allSent() bool { return len(x.sent) >= api.MaxFrames }
+
+// send puts a frame on its way, and answers its number.
+func (x *Cluster) send(to int, f frames.Frame) int {
+	x.sent = append(x.sent, sentFrame{to: to, bytes: f.Bytes()})
+	return len(x.sent)
+}
+
+func (x *Cluster) isSent(f int) bool { return 1 <= f && f <= len(x.sent) }
 
 // Frame tells a frame's bytes (P6).
-func (x *Cluster) Frame(f int) (string, api.Errno) { return "", api.OK }
+func (x *Cluster) Frame(f int) (string, api.Errno) {
+	x.mu.Lock()
+	defer x.mu.Unlock()
+	if !x.isSent(f) {
+		return "", api.ErrFrame
+	}
+	return strings.Clone(x.sent[f-1].bytes), api.OK
+}
 
 // Deliver lets a frame come to its replica (P6).
-func (x *Cluster) Deliver(f int) (int, api.Errno) { return 0, api.OK }
+func (x *Cluster) Deliver(f int) (int, api.Errno) {
+	x.mu.Lock()
+	defer x.mu.Unlock()
+	if !x.isSent(f) {
+		return 0, api.ErrFrame
+	}
+	return x.come(x.sent[f-1].to, x.sent[f-1].bytes)
+}
+
+// come: bytes come to a replica. It answers the number of the acknowledgement
+// that is sent back.
+func (x *Cluster) come(to int, bytes string) (int, api.Errno) {
+	f, ok := frames.Read(bytes)
+	if !ok {
+		return 0, api.ErrFrame
+	}
+	if f.Acknowledges {
+		return 0, api.OK
+	}
+	if x.allSent() {
+		return 0, api.ErrFull
+	}
+	return x.send(f.From, x.replicas[to].Receive(f)), api.OK
+}
 
 // Spoil lets a frame come with a bit turned (P7).
 func (x *Cluster) Spoil(f int, bit int) api.Errno { return api.OK }

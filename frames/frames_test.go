@@ -1,0 +1,62 @@
+package frames
+
+import (
+	"reflect"
+	"testing"
+
+	"thicket/api"
+	"thicket/changes"
+	"thicket/dots"
+)
+
+func added(value string) changes.Change {
+	return changes.Change{Path: "mx/sa", Action: changes.Add, Value: value}
+}
+
+func examples() []Frame {
+	one := dots.One(dots.Dot{Who: 2, Nth: 9}, added("a"))
+	gone := dots.Gone[changes.Change](dots.Dot{Who: 0, Nth: 1}, dots.Dot{Who: 0, Nth: 2})
+	return []Frame{
+		{From: 0, Brings: dots.Gone[changes.Change]()},
+		{From: 5, Brings: one},
+		{From: 1, Brings: gone},
+		{From: 3, Brings: dots.Join(one, gone, dots.One(dots.Dot{Who: 5, Nth: 500}, added("zzzzzzzz")))},
+		{From: 0, Acknowledges: true},
+		{From: 5, Acknowledges: true},
+	}
+}
+
+func TestThereAndBack(t *testing.T) {
+	for _, f := range examples() {
+		if got, ok := Read(f.Bytes()); !ok || !reflect.DeepEqual(got, f) {
+			t.Errorf("%v came as %v, %v", f, got, ok)
+		}
+	}
+}
+
+func TestNoFrames(t *testing.T) {
+	for _, f := range examples() {
+		whole := f.Bytes()
+		for k := range len(whole) {
+			if got, ok := Read(whole[:k]); ok || !reflect.DeepEqual(got, Frame{}) {
+				t.Errorf("%d bytes of %q came as %v", k, whole, got)
+			}
+		}
+		if _, ok := Read(whole + "\x00"); ok {
+			t.Errorf("%q was read with a byte more", whole)
+		}
+	}
+	for _, bytes := range []string{"\x02\x00", "\x00\x06\x00\x00", "\x01\x06", "\xff\xff\xff\xff\xff\xff"} {
+		if _, ok := Read(bytes); ok {
+			t.Errorf("%q is no frame", bytes)
+		}
+	}
+}
+
+func TestAcknowledgementsAreShort(t *testing.T) {
+	for i := range api.MaxReplicas {
+		if n := len(Frame{From: i, Acknowledges: true}.Bytes()); n == 0 || n > 80 {
+			t.Errorf("%d bytes", n)
+		}
+	}
+}
