@@ -99,6 +99,11 @@ func TestP2SameCallsSameAnswers(t *testing.T) {
 		}
 		return told
 	}
+	sameEachTime(t, answers)
+}
+
+func sameEachTime(t *testing.T, answers func() []string) {
+	t.Helper()
 	first := answers()
 	for range 5 {
 		if !slices.Equal(answers(), first) {

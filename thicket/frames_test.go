@@ -300,7 +300,7 @@ func TestP4BoundOfEventsThatManyKnow(t *testing.T) {
 }
 
 func TestP2SameCallsSameBytes(t *testing.T) {
-	answers := func() []string {
+	sameEachTime(t, func() []string {
 		source := rand.New(rand.NewSource(5))
 		x, m := cluster(t, 3, 10), newModel()
 		var told []string
@@ -311,13 +311,7 @@ func TestP2SameCallsSameBytes(t *testing.T) {
 			told = append(told, bytesOf(t, x, len(m.sent)))
 		}
 		return told
-	}
-	first := answers()
-	for range 5 {
-		if !slices.Equal(answers(), first) {
-			t.Fatal("the same calls answered other bytes")
-		}
-	}
+	})
 }
 
 // Each frame has a number of its own, whoever sends it at the same time; and
