@@ -197,3 +197,40 @@ func checkJoined(t *testing.T, all Store[int], stores ...Store[int]) {
 		t.Fatalf("%v knows %d, not %d", stores, all.Known(), known)
 	}
 }
+
+func TestSince(t *testing.T) {
+	a, b, c := Dot{0, 1}, Dot{0, 2}, Dot{1, 1}
+	older := Join(One(a, "a"), One(b, "b"))
+	for _, pair := range []struct{ now, news Store[string] }{
+		{older, Gone[string]()},
+		{Join(older, One(c, "c")), One(c, "c")},
+		{Join(older, Gone[string](c)), Gone[string](c)},
+		{Join(older, Gone[string](a)), Gone[string](a)},
+		{Join(older, Gone[string](b), One(c, "c")), Of(map[Dot]string{c: "c"}, b)},
+	} {
+		if got := pair.now.Since(older); !reflect.DeepEqual(got, pair.news) {
+			t.Errorf("%v since %v: %v", pair.now, older, got)
+		}
+	}
+	if got := older.Since(Store[string]{}); !reflect.DeepEqual(got, older) {
+		t.Errorf("since nothing: %v", got)
+	}
+}
+
+func TestSinceLeadsOn(t *testing.T) {
+	source := rand.New(rand.NewSource(4))
+	for range 300 {
+		older, other := some(source), some(source)
+		now := Join(older, other)
+		news := now.Since(older)
+		if again := Join(older, news); !reflect.DeepEqual(again, now) {
+			t.Fatalf("%v and %v make %v, not %v", older, news, again, now)
+		}
+		if least := now.Known() - older.Known(); news.Known() < least || news.Known() > least+older.Items() {
+			t.Fatalf("%v since %v: %v", now, older, news)
+		}
+		if more := now.Since(now); more.Known() != 0 {
+			t.Fatalf("%v since itself: %v", now, more)
+		}
+	}
+}

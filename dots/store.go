@@ -58,6 +58,25 @@ func goneInAny[T any](d Dot, stores []Store[T]) bool {
 	})
 }
 
+// Since is what a store knows that an older one, which was joined to it, did not:
+// the dots that came, with their items, and those of which the item has gone. Joined
+// to the older one it is the store again.
+func (s Store[T]) Since(older Store[T]) Store[T] {
+	news := Gone[T]()
+	for _, d := range s.known.all() {
+		item, here := s.items[d]
+		_, was := older.items[d]
+		if older.known.has(d) && here == was {
+			continue
+		}
+		news.known.add(d)
+		if here {
+			news.items[d] = item
+		}
+	}
+	return news
+}
+
 // Next is the first dot of a replica that the store does not know.
 func (s Store[T]) Next(who int) Dot { return s.known.next(who) }
 

@@ -7,6 +7,7 @@ import (
 	"thicket/api"
 	"thicket/changes"
 	"thicket/dots"
+	"thicket/wire"
 )
 
 func added(value string) changes.Change {
@@ -18,11 +19,11 @@ func examples() []Frame {
 	gone := dots.Gone[changes.Change](dots.Dot{Who: 0, Nth: 1}, dots.Dot{Who: 0, Nth: 2})
 	return []Frame{
 		{From: 0, Brings: dots.Gone[changes.Change]()},
-		{From: 5, Brings: one},
-		{From: 1, Brings: gone},
-		{From: 3, Brings: dots.Join(one, gone, dots.One(dots.Dot{Who: 5, Nth: 500}, added("zzzzzzzz")))},
+		{From: 5, Mark: 500, Brings: one},
+		{From: 1, Mark: 2, Brings: gone},
+		{From: 3, Mark: 127, Brings: dots.Join(one, gone, dots.One(dots.Dot{Who: 5, Nth: 500}, added("zzzzzzzz")))},
 		{From: 0, Acknowledges: true},
-		{From: 5, Acknowledges: true},
+		{From: 5, Mark: 500, Acknowledges: true},
 	}
 }
 
@@ -46,16 +47,29 @@ func TestNoFrames(t *testing.T) {
 			t.Errorf("%q was read with a byte more", whole)
 		}
 	}
-	for _, bytes := range []string{"\x02\x00", "\x00\x06\x00\x00", "\x01\x06", "\xff\xff\xff\xff\xff\xff"} {
-		if _, ok := Read(bytes); ok {
+	for _, bytes := range []string{"", "\x02\x00\x00", "\x00\x06\x00\x00\x00", "\x01\x06\x00", "\x01\x00\xf5\x03", "\x01\x00", "\x01\x00\x00\x00", "\xff\xff\xff\xff\xff\xff"} {
+		if _, ok := Read(string(wire.Seal([]byte(bytes)))); ok {
 			t.Errorf("%q is no frame", bytes)
+		}
+	}
+}
+
+func TestEveryBitCounts(t *testing.T) {
+	for _, f := range examples() {
+		whole := f.Bytes()
+		for bit := range 8 * len(whole) {
+			spoilt := []byte(whole)
+			spoilt[bit/8] ^= 1 << (bit % 8)
+			if got, ok := Read(string(spoilt)); ok || !reflect.DeepEqual(got, Frame{}) {
+				t.Errorf("bit %d of %q turned: %v", bit, whole, got)
+			}
 		}
 	}
 }
 
 func TestAcknowledgementsAreShort(t *testing.T) {
 	for i := range api.MaxReplicas {
-		if n := len(Frame{From: i, Acknowledges: true}.Bytes()); n == 0 || n > 80 {
+		if n := len(Frame{From: i, Mark: api.MaxEvents, Acknowledges: true}.Bytes()); n == 0 || n > 80 {
 			t.Errorf("%d bytes", n)
 		}
 	}

@@ -22,7 +22,7 @@ func accept(t *testing.T, r *Replica, texts ...string) {
 }
 
 func TestAccept(t *testing.T) {
-	r := New(3)
+	r := New(3, 10, 0, 1, 2)
 	if r.Knows() != 0 || r.Made() != 0 || r.Tell("sx") != "" {
 		t.Errorf("a new replica: %d, %d, %q", r.Knows(), r.Made(), r.Tell("sx"))
 	}
@@ -34,7 +34,7 @@ func TestAccept(t *testing.T) {
 
 // Only what is alive is kept: what was covered takes no room.
 func TestKeepsWhatIsAliveAlone(t *testing.T) {
-	r := New(0)
+	r := New(0, 10, 1)
 	for range 50 {
 		accept(t, r, "sx+a", "fx^", "rx=1", "mx/cx>1", "mx!")
 	}
@@ -46,7 +46,7 @@ func TestKeepsWhatIsAliveAlone(t *testing.T) {
 // carry sends what one knows to another, by its bytes.
 func carry(t *testing.T, from, to *Replica) frames.Frame {
 	t.Helper()
-	f, ok := frames.Read(from.Send().Bytes())
+	f, ok := frames.Read(from.Send(to.who).Bytes())
 	if !ok || f.Acknowledges || f.From != from.who {
 		t.Fatalf("%v is sent by %d", f, from.who)
 	}
@@ -54,7 +54,7 @@ func carry(t *testing.T, from, to *Replica) frames.Frame {
 }
 
 func TestReceive(t *testing.T) {
-	a, b := New(0), New(4)
+	a, b := New(0, 10, 4), New(4, 10, 0)
 	accept(t, a, "sx+a", "sx+b", "sx-a", "fx^")
 	accept(t, b, "sx+a", "cx>3")
 	if f := carry(t, a, b); !f.Acknowledges || f.From != 4 {
@@ -76,5 +76,90 @@ func TestReceive(t *testing.T) {
 	carry(t, a, b)
 	if !reflect.DeepEqual(a.known, b.known) {
 		t.Errorf("%v and %v", a.known, b.known)
+	}
+}
+
+func waits(t *testing.T, r *Replica, want int) {
+	t.Helper()
+	if n := r.Waiting(); n != want {
+		t.Errorf("%d pieces at %d, want %d", n, r.who, want)
+	}
+}
+
+func TestPieces(t *testing.T) {
+	a, b := New(0, 3, 1), New(1, 3, 0)
+	accept(t, a, "sx+a", "sx-a")
+	waits(t, a, 2)
+	acknowledgement := carry(t, a, b)
+	waits(t, b, 1)
+	carry(t, a, b)
+	waits(t, b, 1)
+	a.Tick()
+	waits(t, a, 2)
+	accept(t, a, "fx^")
+	a.Acknowledged(acknowledgement)
+	waits(t, a, 3)
+	a.Tick()
+	waits(t, a, 1)
+	accept(t, a, "fx^", "fx^", "fx^")
+	waits(t, a, 3)
+}
+
+// brings: how many dots and how many effects a frame brings.
+func brings(t *testing.T, f frames.Frame, dots, effects int) {
+	t.Helper()
+	if f.Brings.Known() != dots || f.Brings.Items() != effects {
+		t.Errorf("%d dots and %d effects brought, want %d and %d", f.Brings.Known(), f.Brings.Items(), dots, effects)
+	}
+}
+
+func TestSendsWhatIsNew(t *testing.T) {
+	a, b := New(0, 10, 1, 2), New(1, 10, 0, 2)
+	accept(t, a, "sx+a", "sx+b", "cx>1")
+	brings(t, a.Send(1), 3, 3)
+	a.Acknowledged(carry(t, a, b))
+	brings(t, a.Send(1), 0, 0)
+	brings(t, a.Send(2), 3, 3)
+	brings(t, b.Send(0), 0, 0)
+	brings(t, b.Send(2), 3, 3)
+	accept(t, a, "sx-a", "fx^")
+	brings(t, a.Send(1), 3, 1)
+	accept(t, b, "sx+a", "rx=1")
+	carry(t, b, a)
+	brings(t, a.Send(1), 3, 1)
+	brings(t, a.Send(2), 7, 5)
+	carry(t, a, b)
+	if !reflect.DeepEqual(a.known, b.known) {
+		t.Errorf("%v and %v", a.known, b.known)
+	}
+}
+
+// What was dropped is sent with all the rest.
+func TestSendsAllBehindAGap(t *testing.T) {
+	a, b := New(0, 2, 1), New(1, 2, 0)
+	accept(t, a, "sx+a", "sx+b")
+	a.Acknowledged(carry(t, a, b))
+	accept(t, a, "sx+c", "sx+d")
+	brings(t, a.Send(1), 2, 2)
+	accept(t, a, "sx-a")
+	brings(t, a.Send(1), 5, 3)
+	carry(t, a, b)
+	if b.Tell("sx") != "b,c,d" || b.Knows() != 5 {
+		t.Errorf("%q, %d", b.Tell("sx"), b.Knows())
+	}
+}
+
+// To tell of each effect that it has gone may take more bytes than all that is left.
+func TestSendsAllIfThatIsShorter(t *testing.T) {
+	a, b := New(0, 50, 1), New(1, 50, 0)
+	for range 30 {
+		accept(t, a, "cx>1", "sx-a")
+	}
+	a.Acknowledged(carry(t, a, b))
+	accept(t, a, "cx!")
+	brings(t, a.Send(1), 61, 0)
+	carry(t, a, b)
+	if b.Tell("cx") != "0" || b.Knows() != 61 {
+		t.Errorf("%q, %d", b.Tell("cx"), b.Knows())
 	}
 }

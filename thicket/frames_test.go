@@ -302,7 +302,7 @@ func TestP4BoundOfEventsThatManyKnow(t *testing.T) {
 func TestP2SameCallsSameBytes(t *testing.T) {
 	sameEachTime(t, func() []string {
 		source := rand.New(rand.NewSource(5))
-		x, m := cluster(t, 3, 10), newModel()
+		x, m := cluster(t, 3, 10), newModel(10)
 		var told []string
 		for _, c := range randomChanges(source, 100) {
 			do(t, x, c.who, c.text)

@@ -102,6 +102,36 @@ func bytesOf(t *testing.T, x *thicket.Cluster, f int) string {
 	return s
 }
 
+func spoils(t *testing.T, x *thicket.Cluster, f, bit int, want api.Errno) {
+	t.Helper()
+	if e := x.Spoil(f, bit); e != want {
+		t.Errorf("Spoil(%d, %d): %d, want %d", f, bit, e, want)
+	}
+}
+
+// waits: how many pieces a replica keeps.
+func waits(t *testing.T, x *thicket.Cluster, i, want int) {
+	t.Helper()
+	if n, e := x.Waiting(i); n != want || e != api.OK {
+		t.Errorf("Waiting(%d): %d, %d, want %d", i, n, e, want)
+	}
+}
+
+func tick(t *testing.T, x *thicket.Cluster, i int) {
+	t.Helper()
+	if e := x.Tick(i); e != api.OK {
+		t.Errorf("Tick(%d): %d", i, e)
+	}
+}
+
+// isShort: how many bytes a frame has at most.
+func isShort(t *testing.T, x *thicket.Cluster, f, most int) {
+	t.Helper()
+	if n := len(bytesOf(t, x, f)); n > most {
+		t.Errorf("frame %d has %d bytes, at most %d", f, n, most)
+	}
+}
+
 // exchange: frames to and fro, and their acknowledgements.
 func exchange(t *testing.T, x *thicket.Cluster, i, j int) {
 	t.Helper()

@@ -40,52 +40,115 @@ func randomChanges(source *rand.Rand, n int) []madeChange {
 
 func lastSegment(path string) string { return path[strings.LastIndex(path, "/")+1:] }
 
-// event is one as the section 'Words' has it; it saw events by their places in
-// the model's list.
+// event is one as the section 'Words' has it. It covers events by their places
+// in the model's list.
 type event struct {
 	path, action, operand string
-	saw                   map[int]bool
+	covers                []int
 }
 
 // model tells values by the words of the document alone: it keeps all events,
-// and asks of each which others cover it.
+// and which others each covers. Of pieces it keeps the numbers.
 type model struct {
-	events []event
-	known  [3]map[int]bool
-	sent   []modelFrame
+	room     int
+	events   []event
+	known    [3]map[int]bool
+	sent     []modelFrame
+	made     [3]int      // how many pieces a replica has made
+	kept     [3][]int    // which of these it keeps
+	pushed   [3]int      // how many it has dropped beyond its room
+	answered [3][3][]int // the frames of which it has had the acknowledgement
 }
 
-// modelFrame brings what its sender knew; an acknowledgement knew nothing.
+// modelFrame brings what its sender knew; or it is the acknowledgement of a frame.
 type modelFrame struct {
-	to   int
-	from int
-	knew map[int]bool
+	to, from     int
+	knew         map[int]bool
+	made, pushed int
+	of           int
 }
 
-func newModel() *model {
-	return &model{known: [3]map[int]bool{{}, {}, {}}}
+func newModel(room int) *model {
+	return &model{room: room, known: [3]map[int]bool{{}, {}, {}}}
 }
 
 func (m *model) do(c madeChange) {
 	at := strings.IndexAny(c.text, "+-^_=>!")
-	e := event{c.text[:at], c.text[at : at+1], c.text[at+1:], maps.Clone(m.known[c.who])}
+	e := event{path: c.text[:at], action: c.text[at : at+1], operand: c.text[at+1:]}
+	for k := range m.known[c.who] {
+		if e.isFor(m.events[k]) {
+			e.covers = append(e.covers, k)
+		}
+	}
 	m.known[c.who][len(m.events)] = true
 	m.events = append(m.events, e)
+	m.learn(c.who)
+}
+
+// learn makes a piece.
+func (m *model) learn(i int) {
+	m.made[i]++
+	m.kept[i] = append(m.kept[i], m.made[i])
+	if len(m.kept[i]) > m.room {
+		m.kept[i] = m.kept[i][1:]
+		m.pushed[i]++
+	}
 }
 
 func (m *model) send(i, j int) int {
-	m.sent = append(m.sent, modelFrame{j, i, maps.Clone(m.known[i])})
+	m.sent = append(m.sent, modelFrame{to: j, from: i, knew: maps.Clone(m.known[i]), made: m.made[i], pushed: m.pushed[i]})
 	return len(m.sent)
 }
 
 func (m *model) deliver(f int) int {
 	frame := m.sent[f-1]
-	if frame.knew == nil {
+	if frame.of > 0 {
+		m.answered[frame.to][frame.from] = append(m.answered[frame.to][frame.from], frame.of)
 		return 0
 	}
+	before := len(m.known[frame.to])
 	maps.Copy(m.known[frame.to], frame.knew)
-	m.sent = append(m.sent, modelFrame{to: frame.from, from: frame.to})
+	if len(m.known[frame.to]) > before {
+		m.learn(frame.to)
+	}
+	m.sent = append(m.sent, modelFrame{to: frame.from, from: frame.to, of: f})
 	return len(m.sent)
+}
+
+func (m *model) tick(i int) {
+	m.kept[i] = slices.DeleteFunc(m.kept[i], func(piece int) bool {
+		for j := range 3 {
+			has := func(f int) bool { return m.sent[f-1].made >= piece }
+			if i != j && !slices.ContainsFunc(m.answered[i][j], has) {
+				return false
+			}
+		}
+		return true
+	})
+}
+
+// most is how many bytes the last frame may have.
+func (m *model) most() int {
+	last := m.sent[len(m.sent)-1]
+	if last.of > 0 {
+		return 80
+	}
+	alive := m.alive(last.knew)
+	most := 200 + 80*len(alive)
+	for _, f := range m.answered[last.from][last.to] {
+		earlier := m.sent[f-1]
+		if earlier.pushed != last.pushed {
+			continue
+		}
+		bytes := 80 + 80*(len(last.knew)-len(earlier.knew))
+		for k := range m.alive(earlier.knew) {
+			if _, still := alive[k]; !still {
+				bytes += 8
+			}
+		}
+		most = min(most, bytes)
+	}
+	return most
 }
 
 // check holds all that a cluster tells against the model.
@@ -93,17 +156,17 @@ func (m *model) check(t *testing.T, x *thicket.Cluster) {
 	t.Helper()
 	for i := range 3 {
 		knows(t, x, i, len(m.known[i]))
-		alive := m.alive(i)
+		alive := m.alive(m.known[i])
 		for _, path := range modelPaths {
 			tells(t, x, i, path, tellOf(alive, path))
 		}
 	}
 }
 
-func (m *model) covers(d event, k int) bool {
-	e := m.events[k]
+// isFor: an event covers another one, if it saw it.
+func (d event) isFor(e event) bool {
 	switch {
-	case !d.saw[k]:
+	case !strings.Contains("+^=>", e.action):
 		return false
 	case d.action == "!":
 		return d.path == e.path || strings.HasPrefix(e.path, d.path+"/")
@@ -117,21 +180,24 @@ func (m *model) covers(d event, k int) bool {
 	return d.action == "=" && e.action == "="
 }
 
-func (m *model) alive(i int) []event {
-	var alive []event
-	for k := range m.known[i] {
-		covered := false
-		for other := range m.known[i] {
-			covered = covered || m.covers(m.events[other], k)
+// alive is the effects that are alive where these events are known, by their
+// places.
+func (m *model) alive(known map[int]bool) map[int]event {
+	alive := map[int]event{}
+	for k := range known {
+		if strings.Contains("+^=>", m.events[k].action) {
+			alive[k] = m.events[k]
 		}
-		if strings.Contains("+^=>", m.events[k].action) && !covered {
-			alive = append(alive, m.events[k])
+	}
+	for k := range known {
+		for _, covered := range m.events[k].covers {
+			delete(alive, covered)
 		}
 	}
 	return alive
 }
 
-func tellOf(alive []event, path string) string {
+func tellOf(alive map[int]event, path string) string {
 	var list []string
 	sum := 0
 	for _, e := range alive {
@@ -156,7 +222,7 @@ func tellOf(alive []event, path string) string {
 
 func TestP4P5AsTheWordsSay(t *testing.T) {
 	for seed := range 20 {
-		x, m := cluster(t, 3, 10), newModel()
+		x, m := cluster(t, 3, 10), newModel(10)
 		for k, c := range randomChanges(rand.New(rand.NewSource(int64(seed))), api.MaxEvents) {
 			do(t, x, c.who, c.text)
 			m.do(c)
@@ -171,11 +237,21 @@ func TestP4P5AsTheWordsSay(t *testing.T) {
 	}
 }
 
+// someFrame is one of the last, mostly, so that acknowledgements come while they
+// are of use; 0 if there is none.
+func (m *model) someFrame(source *rand.Rand) int {
+	lately := len(m.sent)
+	if source.Intn(4) > 0 {
+		lately = min(lately, 4)
+	}
+	return len(m.sent) - source.Intn(lately+1)
+}
+
 // step is a frame sent or delivered at random, at the cluster and the model.
 func (m *model) step(t *testing.T, x *thicket.Cluster, source *rand.Rand) {
 	t.Helper()
 	got, want := 0, 0
-	if f := source.Intn(len(m.sent) + 1); f > 0 && source.Intn(2) == 0 {
+	if f := m.someFrame(source); f > 0 && source.Intn(3) > 0 {
 		got, want = deliver(t, x, f), m.deliver(f)
 	} else {
 		i := source.Intn(3)
@@ -185,14 +261,25 @@ func (m *model) step(t *testing.T, x *thicket.Cluster, source *rand.Rand) {
 	if got != want {
 		t.Errorf("frame %d, want %d", got, want)
 	}
+	if got > 0 {
+		isShort(t, x, got, m.most())
+	}
+	if i := source.Intn(9); i < 3 {
+		tick(t, x, i)
+		m.tick(i)
+	}
+	for i := range 3 {
+		waits(t, x, i, len(m.kept[i]))
+	}
 }
 
 // Frames are lost, come late, come twice: each time all is as the section
 // 'Words' has it, of the events that came.
-func TestP6P10AsTheWordsSay(t *testing.T) {
+func TestP6P8P10AsTheWordsSay(t *testing.T) {
 	for seed := range 60 {
 		source := rand.New(rand.NewSource(int64(seed)))
-		x, m := cluster(t, 3, []int{0, 1, 5, 50}[seed%4]), newModel()
+		room := []int{0, 1, 5, 50}[seed%4]
+		x, m := cluster(t, 3, room), newModel(room)
 		for k, c := range randomChanges(source, 150) {
 			do(t, x, c.who, c.text)
 			m.do(c)

@@ -32,9 +32,19 @@ func New(replicas int, room int) (*Cluster, api.Errno) {
 	}
 	x := &Cluster{}
 	for i := range replicas {
-		x.replicas = append(x.replicas, replica.New(i))
+		x.replicas = append(x.replicas, replica.New(i, room, othersThan(i, replicas)...))
 	}
 	return x, api.OK
+}
+
+func othersThan(i, replicas int) []int {
+	var others []int
+	for j := range replicas {
+		if j != i {
+			others = append(others, j)
+		}
+	}
+	return others
 }
 
 // named: whether numbers are replicas' (P3).
@@ -119,7 +129,7 @@ func (x *Cluster) Send(i int, j int) (int, api.Errno) {
 	if x.allSent() {
 		return 0, api.ErrFull
 	}
-	return x.send(j, x.replicas[i].Send()), api.OK
+	return x.send(j, x.replicas[i].Send(j)), api.OK
 }
 
 func (x *Cluster) allSent() bool { return len(x.sent) >= api.MaxFrames }
@@ -160,6 +170,7 @@ func (x *Cluster) come(to int, bytes string) (int, api.Errno) {
 		return 0, api.ErrFrame
 	}
 	if f.Acknowledges {
+		x.replicas[to].Acknowledged(f)
 		return 0, api.OK
 	}
 	if x.allSent() {
@@ -169,13 +180,46 @@ func (x *Cluster) come(to int, bytes string) (int, api.Errno) {
 }
 
 // Spoil lets a frame come with a bit turned (P7).
-func (x *Cluster) Spoil(f int, bit int) api.Errno { return api.OK }
+func (x *Cluster) Spoil(f int, bit int) api.Errno {
+	x.mu.Lock()
+	defer x.mu.Unlock()
+	if !x.isSent(f) {
+		return api.ErrFrame
+	}
+	frame := x.sent[f-1]
+	if bit < 0 || bit >= 8*len(frame.bytes) {
+		return api.ErrArg
+	}
+	_, e := x.come(frame.to, turned(frame.bytes, bit))
+	return e
+}
+
+func turned(bytes string, bit int) string {
+	spoilt := []byte(bytes)
+	spoilt[bit/8] ^= 1 << (bit % 8)
+	return string(spoilt)
+}
 
 // Waiting tells how many pieces a replica keeps (P8).
-func (x *Cluster) Waiting(i int) (int, api.Errno) { return 0, x.onlyNamed(i) }
+func (x *Cluster) Waiting(i int) (int, api.Errno) {
+	x.mu.Lock()
+	defer x.mu.Unlock()
+	if e := x.named(i); e != api.OK {
+		return 0, e
+	}
+	return x.replicas[i].Waiting(), api.OK
+}
 
 // Tick drops pieces that all others have acknowledged (P8).
-func (x *Cluster) Tick(i int) api.Errno { return x.onlyNamed(i) }
+func (x *Cluster) Tick(i int) api.Errno {
+	x.mu.Lock()
+	defer x.mu.Unlock()
+	if e := x.named(i); e != api.OK {
+		return e
+	}
+	x.replicas[i].Tick()
+	return api.OK
+}
 
 // Crash lets a replica crash and come up again (P9).
 func (x *Cluster) Crash(i int) api.Errno { return x.onlyNamed(i) }

@@ -1,4 +1,5 @@
-// Package wire: numbers, texts and stores of dots as bytes.
+// Package wire: numbers, texts and stores of dots as bytes, and the sum that seals
+// them.
 package wire
 
 // A number is written seven bits a byte, the lowest first; the top bit says that

@@ -118,3 +118,27 @@ func TestAnyBytes(t *testing.T) {
 		NewReader(string(bytes)).Store()
 	}
 }
+
+func TestSealed(t *testing.T) {
+	for _, text := range []string{"", "\x00", "\x00\x00", "a", "some text", strings.Repeat("\xff", 300)} {
+		sealed := string(Seal([]byte(text)))
+		if got, ok := Unseal(sealed); got != text || !ok {
+			t.Errorf("%.20q came as %.20q, %v", text, got, ok)
+		}
+		for k := range len(sealed) {
+			if got, ok := Unseal(sealed[:k]); got != "" || ok {
+				t.Errorf("%d bytes of %.20q came as %.20q", k, sealed, got)
+			}
+			for turn := 1; turn < 256; turn++ {
+				spoilt := []byte(sealed)
+				spoilt[k] ^= byte(turn)
+				if got, ok := Unseal(string(spoilt)); got != "" || ok {
+					t.Errorf("%.20q came as %.20q, with byte %d another one", text, got, k)
+				}
+			}
+		}
+		if _, ok := Unseal(sealed + "\x00"); ok {
+			t.Errorf("%.20q was taken with a byte more", text)
+		}
+	}
+}
