@@ -46,7 +46,7 @@ func Read(bytes string) (f Frame, ok bool) {
 	r := wire.NewReader(inside)
 	f.Acknowledges = r.Number(brings, acknowledges) == acknowledges
 	f.From = r.Number(0, api.MaxReplicas-1)
-	f.Mark = r.Number(0, api.MaxEvents)
+	f.Mark = r.Number(0, wire.MostEvents)
 	if !f.Acknowledges {
 		f.Brings = r.Store()
 	}

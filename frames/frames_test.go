@@ -23,7 +23,7 @@ func examples() []Frame {
 		{From: 1, Mark: 2, Brings: gone},
 		{From: 3, Mark: 127, Brings: dots.Join(one, gone, dots.One(dots.Dot{Who: 5, Nth: 500}, added("zzzzzzzz")))},
 		{From: 0, Acknowledges: true},
-		{From: 5, Mark: 500, Acknowledges: true},
+		{From: 5, Mark: wire.MostEvents, Acknowledges: true},
 	}
 }
 
@@ -47,7 +47,7 @@ func TestNoFrames(t *testing.T) {
 			t.Errorf("%q was read with a byte more", whole)
 		}
 	}
-	for _, bytes := range []string{"", "\x02\x00\x00", "\x00\x06\x00\x00\x00", "\x01\x06\x00", "\x01\x00\xf5\x03", "\x01\x00", "\x01\x00\x00\x00", "\xff\xff\xff\xff\xff\xff"} {
+	for _, bytes := range []string{"", "\x02\x00\x00", "\x00\x06\x00\x00\x00", "\x01\x06\x00", "\x01\x00\xfa\x03", "\x01\x00", "\x01\x00\x00\x00", "\xff\xff\xff\xff\xff\xff"} {
 		if _, ok := Read(string(wire.Seal([]byte(bytes)))); ok {
 			t.Errorf("%q is no frame", bytes)
 		}
@@ -69,7 +69,7 @@ func TestEveryBitCounts(t *testing.T) {
 
 func TestAcknowledgementsAreShort(t *testing.T) {
 	for i := range api.MaxReplicas {
-		if n := len(Frame{From: i, Mark: api.MaxEvents, Acknowledges: true}.Bytes()); n == 0 || n > 80 {
+		if n := len(Frame{From: i, Mark: wire.MostEvents, Acknowledges: true}.Bytes()); n == 0 || n > 80 {
 			t.Errorf("%d bytes", n)
 		}
 	}

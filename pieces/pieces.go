@@ -48,6 +48,15 @@ func (k *Kept[T]) dropOldest() {
 	k.pieces = slices.Delete(k.pieces, 0, 1)
 }
 
+// Lose: no pieces are left, nor what neighbours have acknowledged. All that was
+// known ahead of it, up to a mark, is as if it had been dropped.
+func (k *Kept[T]) Lose(mark int) {
+	k.pieces, k.dropped = nil, mark
+	for j := range k.acknowledged {
+		k.acknowledged[j] = 0
+	}
+}
+
 // Waiting is how many pieces are kept.
 func (k *Kept[T]) Waiting() int { return len(k.pieces) }
 

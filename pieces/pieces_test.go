@@ -149,3 +149,49 @@ func TestNewsWithoutRoom(t *testing.T) {
 	add(k, 2)
 	noNews(t, k, 1)
 }
+
+// What was known ahead of a crash can be sent as a whole alone, and only what is
+// acknowledged behind it counts.
+func TestLose(t *testing.T) {
+	k := New[int](10, 1, 2)
+	add(k, 1, 2, 3)
+	k.Acknowledge(1, 3)
+	k.Acknowledge(2, 3)
+	k.Lose(3)
+	waits(t, k, 0)
+	noNews(t, k, 1)
+	noNews(t, k, 2)
+	add(k, 4, 5)
+	k.Tick()
+	waits(t, k, 2)
+	noNews(t, k, 1)
+	k.Acknowledge(1, 2)
+	noNews(t, k, 1)
+	k.Acknowledge(1, 3)
+	news(t, k, 1, 4, 5)
+	k.Acknowledge(1, 5)
+	news(t, k, 1)
+	k.Acknowledge(2, 4)
+	news(t, k, 2, 5)
+	k.Tick()
+	waits(t, k, 1)
+}
+
+func TestLoseNothing(t *testing.T) {
+	k := New[int](10, 1)
+	k.Lose(0)
+	news(t, k, 1)
+	add(k, 1)
+	news(t, k, 1, 1)
+}
+
+func TestLoseAlone(t *testing.T) {
+	k := New[int](10)
+	add(k, 1)
+	k.Lose(1)
+	waits(t, k, 0)
+	add(k, 2)
+	waits(t, k, 1)
+	k.Tick()
+	waits(t, k, 0)
+}

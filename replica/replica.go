@@ -5,47 +5,65 @@ import (
 	"iter"
 
 	"thicket/changes"
+	"thicket/disk"
 	"thicket/dots"
 	"thicket/frames"
 	"thicket/pieces"
 	"thicket/values"
+	"thicket/wire"
 )
 
 // Replica has a dot for each event that it knows, and at the dot the effect, as
-// long as it is alive. It keeps pieces of that for its neighbours.
+// long as it is alive. It keeps pieces of that for its neighbours. What it knows is
+// on its disk; all else is lost when it crashes.
 type Replica struct {
 	who   int
 	known dots.Store[changes.Change]
 	kept  *pieces.Kept[changes.Change]
+	disk  *disk.Disk
+	down  bool
 }
 
 // New makes a replica of a number, that knows nothing, with room for so many
 // pieces.
 func New(who, room int, neighbours ...int) *Replica {
-	return &Replica{who: who, kept: pieces.New[changes.Change](room, neighbours...)}
+	r := &Replica{who: who, kept: pieces.New[changes.Change](room, neighbours...)}
+	r.disk = disk.New(written(r.known))
+	return r
 }
 
+// written is what is known, as it is written to the disk.
+func written(known dots.Store[changes.Change]) string { return string(wire.Store(nil, known)) }
+
 // Accept takes a change as one more event of this replica's. It saw all that is
-// known here: so what it covers of the effects alive is gone.
-func (r *Replica) Accept(c changes.Change) {
+// known here: so what it covers of the effects alive is gone. Not ok, if the
+// replica crashed meanwhile.
+func (r *Replica) Accept(c changes.Change) (ok bool) {
 	event := r.known.Next(r.who)
 	gone := dots.Gone[changes.Change](r.covered(c)...)
 	made := dots.Gone[changes.Change](event)
 	if c.IsEffect() {
 		made = dots.One(event, c)
 	}
-	r.learn(r.who, gone, made)
+	return r.learn(r.who, gone, made)
 }
 
 // learn joins stores to what is known, and keeps what was new of them as a piece.
-func (r *Replica) learn(from int, stores ...dots.Store[changes.Change]) {
+// It is on the disk ahead of that; if the write is cut off, the replica goes down,
+// and what it knows is settled once it wakes.
+func (r *Replica) learn(from int, stores ...dots.Store[changes.Change]) (ok bool) {
 	now := dots.Join(append(stores, r.known)...)
 	news := now.Since(r.known)
 	if news.Known() == 0 {
-		return
+		return true
+	}
+	if !r.disk.Write(written(now)) {
+		r.down = true
+		return false
 	}
 	r.known = now
 	r.kept.Add(news, from, r.Knows())
+	return true
 }
 
 func (r *Replica) covered(c changes.Change) []dots.Dot {
@@ -78,10 +96,13 @@ func (r *Replica) bringing(what dots.Store[changes.Change]) frames.Frame {
 	return frames.Frame{From: r.who, Mark: r.Knows(), Brings: what}
 }
 
-// Receive takes what a frame brings, and answers the acknowledgement.
-func (r *Replica) Receive(f frames.Frame) frames.Frame {
-	r.learn(f.From, f.Brings)
-	return frames.Frame{From: r.who, Mark: f.Mark, Acknowledges: true}
+// Receive takes what a frame brings, and answers the acknowledgement: not ok, if
+// the replica crashed meanwhile.
+func (r *Replica) Receive(f frames.Frame) (acknowledgement frames.Frame, ok bool) {
+	if !r.learn(f.From, f.Brings) {
+		return frames.Frame{}, false
+	}
+	return frames.Frame{From: r.who, Mark: f.Mark, Acknowledges: true}, true
 }
 
 // Acknowledged takes an acknowledgement.
@@ -92,6 +113,24 @@ func (r *Replica) Waiting() int { return r.kept.Waiting() }
 
 // Tick drops the pieces that all neighbours have acknowledged.
 func (r *Replica) Tick() { r.kept.Tick() }
+
+// Crash loses all but what is on the disk, and goes on from there.
+func (r *Replica) Crash() {
+	r.known = wire.NewReader(r.disk.Read()).Store()
+	r.kept.Lose(r.Knows())
+}
+
+// Tear lets the next write be cut off after so many bytes.
+func (r *Replica) Tear(bytes int) { r.disk.CutOff(bytes) }
+
+// IsDown: a write was cut off, and the replica has not woken since.
+func (r *Replica) IsDown() bool { return r.down }
+
+// Wake lets a replica that is down go on, from what is on its disk.
+func (r *Replica) Wake() {
+	r.down = false
+	r.Crash()
+}
 
 // Tell is what the effects alive here make of a path.
 func (r *Replica) Tell(path changes.Path) string { return values.At(path, r.alive()) }

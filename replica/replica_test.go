@@ -10,14 +10,21 @@ import (
 	"thicket/frames"
 )
 
+func change(t *testing.T, text string) changes.Change {
+	t.Helper()
+	c, e := changes.Read(text)
+	if e != api.OK {
+		t.Fatalf("%q is no change: %d", text, e)
+	}
+	return c
+}
+
 func accept(t *testing.T, r *Replica, texts ...string) {
 	t.Helper()
 	for _, text := range texts {
-		c, e := changes.Read(text)
-		if e != api.OK {
-			t.Fatalf("%q is no change: %d", text, e)
+		if !r.Accept(change(t, text)) {
+			t.Errorf("%q was torn", text)
 		}
-		r.Accept(c)
 	}
 }
 
@@ -50,7 +57,11 @@ func carry(t *testing.T, from, to *Replica) frames.Frame {
 	if !ok || f.Acknowledges || f.From != from.who {
 		t.Fatalf("%v is sent by %d", f, from.who)
 	}
-	return to.Receive(f)
+	acknowledgement, ok := to.Receive(f)
+	if !ok {
+		t.Errorf("%v was torn", f)
+	}
+	return acknowledgement
 }
 
 func TestReceive(t *testing.T) {
@@ -161,5 +172,99 @@ func TestSendsAllIfThatIsShorter(t *testing.T) {
 	carry(t, a, b)
 	if b.Tell("cx") != "0" || b.Knows() != 61 {
 		t.Errorf("%q, %d", b.Tell("cx"), b.Knows())
+	}
+}
+
+// torn lets a change be torn, and wakes the replica.
+func torn(t *testing.T, r *Replica, text string, bytes int) {
+	t.Helper()
+	r.Tear(bytes)
+	if r.IsDown() || r.Accept(change(t, text)) || !r.IsDown() {
+		t.Errorf("%q was not torn after %d bytes", text, bytes)
+	}
+	r.Wake()
+	if r.IsDown() {
+		t.Error("down behind Wake")
+	}
+}
+
+func TestCrash(t *testing.T) {
+	a, b := New(0, 10, 1), New(1, 10, 0)
+	a.Crash()
+	if a.Knows() != 0 || a.IsDown() {
+		t.Errorf("%d known behind a crash of one that knew nothing", a.Knows())
+	}
+	accept(t, a, "sx+a", "sx+b", "sx-a", "mx/cx>-5", "fx^", "rx=1")
+	accept(t, b, "sx+z", "sx-q")
+	carry(t, b, a)
+	known := a.known
+	a.Crash()
+	if !reflect.DeepEqual(a.known, known) || a.IsDown() {
+		t.Errorf("%v became %v", known, a.known)
+	}
+	waits(t, a, 0)
+	brings(t, a.Send(1), 8, 5)
+	accept(t, a, "sx-b")
+	if a.Made() != 7 || a.Tell("sx") != "z" {
+		t.Errorf("%d made, %q", a.Made(), a.Tell("sx"))
+	}
+}
+
+func TestTornChanges(t *testing.T) {
+	r := New(0, 10, 1)
+	accept(t, r, "sx+a")
+	former := r.known
+	whole := 0
+	for bytes := 0; r.Knows() == 1 && bytes < 1000; bytes++ {
+		if !reflect.DeepEqual(r.known, former) {
+			t.Fatalf("%v behind %d bytes of a write", r.known, bytes)
+		}
+		torn(t, r, "sx+b", bytes)
+		waits(t, r, 0)
+		whole = bytes
+	}
+	if r.Knows() != 2 || r.Made() != 2 || r.Tell("sx") != "a,b" || whole < 1 || whole > 200+2*80 {
+		t.Errorf("%d known, %d made, %q behind all of the %d bytes", r.Knows(), r.Made(), r.Tell("sx"), whole)
+	}
+	accept(t, r, "sx-b")
+	if r.Knows() != 3 || r.Tell("sx") != "a" {
+		t.Errorf("%d known, %q", r.Knows(), r.Tell("sx"))
+	}
+}
+
+func TestTornFrames(t *testing.T) {
+	for _, c := range []struct{ bytes, known, pieces int }{{0, 1, 1}, {20, 1, 1}, {1 << 20, 3, 0}} {
+		a, b := New(0, 10, 1), New(1, 10, 0)
+		accept(t, a, "sx+a", "sx+b")
+		accept(t, b, "cx>1")
+		b.Tear(c.bytes)
+		if f, ok := b.Receive(a.Send(1)); ok || !reflect.DeepEqual(f, frames.Frame{}) || !b.IsDown() {
+			t.Errorf("a frame torn after %d bytes: %v, %v", c.bytes, f, ok)
+		}
+		b.Wake()
+		if b.Knows() != c.known {
+			t.Errorf("%d known behind %d bytes of a write", b.Knows(), c.bytes)
+		}
+		carry(t, a, b)
+		if b.Knows() != 3 || b.Tell("sx") != "a,b" {
+			t.Errorf("%d known, %q", b.Knows(), b.Tell("sx"))
+		}
+		waits(t, b, c.pieces)
+	}
+}
+
+// What brings nothing new is not written; nor is it by a crash that a tear is gone.
+func TestTearWaitsForAWrite(t *testing.T) {
+	a, b := New(0, 10, 1), New(1, 10, 0)
+	accept(t, a, "sx+a")
+	acknowledgement := carry(t, a, b)
+	b.Tear(0)
+	carry(t, a, b)
+	b.Crash()
+	b.Tick()
+	b.Acknowledged(acknowledgement)
+	carry(t, b, a)
+	if b.IsDown() || b.Accept(change(t, "sx+b")) || !b.IsDown() || b.Knows() != 1 {
+		t.Error("the tear did not wait")
 	}
 }

@@ -154,3 +154,55 @@ func everyToEvery(t *testing.T, x *thicket.Cluster, replicas int) {
 		deliver(t, x, f)
 	}
 }
+
+func crash(t *testing.T, x *thicket.Cluster, i int) {
+	t.Helper()
+	if e := x.Crash(i); e != api.OK {
+		t.Errorf("Crash(%d): %d", i, e)
+	}
+}
+
+func tear(t *testing.T, x *thicket.Cluster, i, bytes int) {
+	t.Helper()
+	if e := x.Tear(i, bytes); e != api.OK {
+		t.Errorf("Tear(%d, %d): %d", i, bytes, e)
+	}
+}
+
+func wake(t *testing.T, x *thicket.Cluster, i int) {
+	t.Helper()
+	if e := x.Wake(i); e != api.OK {
+		t.Errorf("Wake(%d): %d", i, e)
+	}
+}
+
+// torn: a change that is torn after so many bytes; the replica is down.
+func torn(t *testing.T, x *thicket.Cluster, i, bytes int, change string) {
+	t.Helper()
+	tear(t, x, i, bytes)
+	refuses(t, x, i, change, api.ErrCrashed)
+}
+
+// isDown: every call that names the replica answers so, whatever else is wrong.
+func isDown(t *testing.T, x *thicket.Cluster, i int) {
+	t.Helper()
+	for _, text := range []string{"sx", "sx+a", "", "mx", "fx+", "cx>x"} {
+		refuses(t, x, i, text, api.ErrDown)
+		asksInVain(t, x, i, text, api.ErrDown)
+	}
+	if n, e := x.Knows(i); n != 0 || e != api.ErrDown {
+		t.Errorf("Knows(%d): %d, %d", i, n, e)
+	}
+	if n, e := x.Waiting(i); n != 0 || e != api.ErrDown {
+		t.Errorf("Waiting(%d): %d, %d", i, n, e)
+	}
+	for _, j := range []int{-1, i, 6} {
+		sendsInVain(t, x, i, j, api.ErrDown)
+	}
+	sendsInVain(t, x, -1, i, api.ErrReplica)
+	for k, e := range []api.Errno{x.Tick(i), x.Crash(i), x.Tear(i, 0), x.Tear(i, -1)} {
+		if e != api.ErrDown {
+			t.Errorf("call %d of replica %d: %d", k, i, e)
+		}
+	}
+}

@@ -54,10 +54,12 @@ type model struct {
 	events   []event
 	known    [3]map[int]bool
 	sent     []modelFrame
-	made     [3]int      // how many pieces a replica has made
-	kept     [3][]int    // which of these it keeps
-	pushed   [3]int      // how many it has dropped beyond its room
-	answered [3][3][]int // the frames of which it has had the acknowledgement
+	made     [3]int          // how many pieces a replica has made
+	kept     [3][]int        // which of these it keeps
+	pushed   [3]int          // how many times it has crashed, or dropped one beyond its room
+	answered [3][3][]int     // the frames of which it has had the acknowledgement
+	tears    [3]*int         // how many bytes of its next write are written
+	torn     [3]map[int]bool // what it would know, had it not gone down; nil if it is up
 }
 
 // modelFrame brings what its sender knew; or it is the acknowledgement of a frame.
@@ -72,7 +74,10 @@ func newModel(room int) *model {
 	return &model{room: room, known: [3]map[int]bool{{}, {}, {}}}
 }
 
-func (m *model) do(c madeChange) {
+func (m *model) do(c madeChange) api.Errno {
+	if m.torn[c.who] != nil {
+		return api.ErrDown
+	}
 	at := strings.IndexAny(c.text, "+-^_=>!")
 	e := event{path: c.text[:at], action: c.text[at : at+1], operand: c.text[at+1:]}
 	for k := range m.known[c.who] {
@@ -80,39 +85,85 @@ func (m *model) do(c madeChange) {
 			e.covers = append(e.covers, k)
 		}
 	}
-	m.known[c.who][len(m.events)] = true
 	m.events = append(m.events, e)
-	m.learn(c.who)
+	return m.learn(c.who, map[int]bool{len(m.events) - 1: true})
 }
 
-// learn makes a piece.
-func (m *model) learn(i int) {
+// learn makes a piece of what is new, if the write is not torn.
+func (m *model) learn(i int, more map[int]bool) api.Errno {
+	now := maps.Clone(m.known[i])
+	maps.Copy(now, more)
+	if len(now) == len(m.known[i]) {
+		return api.OK
+	}
+	if m.tears[i] != nil {
+		m.torn[i] = now
+		return api.ErrCrashed
+	}
+	m.known[i] = now
 	m.made[i]++
 	m.kept[i] = append(m.kept[i], m.made[i])
 	if len(m.kept[i]) > m.room {
 		m.kept[i] = m.kept[i][1:]
 		m.pushed[i]++
 	}
+	return api.OK
 }
 
-func (m *model) send(i, j int) int {
+// crash loses what is kept for neighbours, and what these have acknowledged.
+func (m *model) crash(i int) {
+	m.kept[i] = nil
+	m.answered[i] = [3][]int{}
+	m.pushed[i]++
+}
+
+func (m *model) tear(t *testing.T, x *thicket.Cluster, i, bytes int) {
+	t.Helper()
+	tear(t, x, i, bytes)
+	m.tears[i] = &bytes
+}
+
+// wake: how many events the replica knows then tells whether its torn write was
+// whole, where that is the program's business.
+func (m *model) wake(t *testing.T, x *thicket.Cluster, i int) {
+	t.Helper()
+	wake(t, x, i)
+	knows, _ := x.Knows(i)
+	former, latter := len(m.known[i]), len(m.torn[i])
+	bytes := *m.tears[i]
+	most := 200 + 80*len(m.alive(m.torn[i]))
+	if knows != former && knows != latter || bytes < 1 && knows != former || bytes >= most && knows != latter {
+		t.Errorf("%d events known behind %d bytes of a write, not %d or %d", knows, bytes, former, latter)
+	}
+	if knows == latter {
+		m.known[i] = m.torn[i]
+	}
+	m.torn[i], m.tears[i] = nil, nil
+	m.crash(i)
+}
+
+func (m *model) send(i, j int) (int, api.Errno) {
+	if m.torn[i] != nil || m.torn[j] != nil {
+		return 0, api.ErrDown
+	}
 	m.sent = append(m.sent, modelFrame{to: j, from: i, knew: maps.Clone(m.known[i]), made: m.made[i], pushed: m.pushed[i]})
-	return len(m.sent)
+	return len(m.sent), api.OK
 }
 
-func (m *model) deliver(f int) int {
+func (m *model) deliver(f int) (int, api.Errno) {
 	frame := m.sent[f-1]
+	if m.torn[frame.to] != nil {
+		return 0, api.ErrDown
+	}
 	if frame.of > 0 {
 		m.answered[frame.to][frame.from] = append(m.answered[frame.to][frame.from], frame.of)
-		return 0
+		return 0, api.OK
 	}
-	before := len(m.known[frame.to])
-	maps.Copy(m.known[frame.to], frame.knew)
-	if len(m.known[frame.to]) > before {
-		m.learn(frame.to)
+	if e := m.learn(frame.to, frame.knew); e != api.OK {
+		return 0, e
 	}
 	m.sent = append(m.sent, modelFrame{to: frame.from, from: frame.to, of: f})
-	return len(m.sent)
+	return len(m.sent), api.OK
 }
 
 func (m *model) tick(i int) {
@@ -155,6 +206,10 @@ func (m *model) most() int {
 func (m *model) check(t *testing.T, x *thicket.Cluster) {
 	t.Helper()
 	for i := range 3 {
+		if m.torn[i] != nil {
+			isDown(t, x, i)
+			continue
+		}
 		knows(t, x, i, len(m.known[i]))
 		alive := m.alive(m.known[i])
 		for _, path := range modelPaths {
@@ -250,27 +305,63 @@ func (m *model) someFrame(source *rand.Rand) int {
 // step is a frame sent or delivered at random, at the cluster and the model.
 func (m *model) step(t *testing.T, x *thicket.Cluster, source *rand.Rand) {
 	t.Helper()
-	got, want := 0, 0
+	var got, want int
+	var e, wantE api.Errno
 	if f := m.someFrame(source); f > 0 && source.Intn(3) > 0 {
-		got, want = deliver(t, x, f), m.deliver(f)
+		got, e = x.Deliver(f)
+		want, wantE = m.deliver(f)
 	} else {
 		i := source.Intn(3)
 		j := (i + 1 + source.Intn(2)) % 3
-		got, want = send(t, x, i, j), m.send(i, j)
+		got, e = x.Send(i, j)
+		want, wantE = m.send(i, j)
 	}
-	if got != want {
-		t.Errorf("frame %d, want %d", got, want)
+	if got != want || e != wantE {
+		t.Errorf("frame %d, %d, want %d, %d", got, e, want, wantE)
 	}
 	if got > 0 {
 		isShort(t, x, got, m.most())
 	}
-	if i := source.Intn(9); i < 3 {
+	if i := source.Intn(9); i < 3 && m.torn[i] == nil {
 		tick(t, x, i)
 		m.tick(i)
 	}
 	for i := range 3 {
-		waits(t, x, i, len(m.kept[i]))
+		if m.torn[i] == nil {
+			waits(t, x, i, len(m.kept[i]))
+		}
 	}
+}
+
+// random makes changes and sends frames, at the cluster and the model, and lets
+// something else happen in between.
+func (m *model) random(t *testing.T, x *thicket.Cluster, source *rand.Rand, more func()) {
+	t.Helper()
+	for k, c := range randomChanges(source, 150) {
+		refuses(t, x, c.who, c.text, m.do(c))
+		for range source.Intn(4) {
+			m.step(t, x, source)
+		}
+		more()
+		if k%10 == 9 {
+			m.check(t, x)
+		}
+	}
+}
+
+// meet: every replica sends to every other one, and then once more: all know what
+// one of them knew.
+func (m *model) meet(t *testing.T, x *thicket.Cluster) {
+	t.Helper()
+	all := map[int]bool{}
+	for i := range 3 {
+		maps.Copy(all, m.known[i])
+		m.known[i] = all
+	}
+	for range 2 {
+		everyToEvery(t, x, 3)
+	}
+	m.check(t, x)
 }
 
 // Frames are lost, come late, come twice: each time all is as the section
@@ -280,27 +371,9 @@ func TestP6P8P10AsTheWordsSay(t *testing.T) {
 		source := rand.New(rand.NewSource(int64(seed)))
 		room := []int{0, 1, 5, 50}[seed%4]
 		x, m := cluster(t, 3, room), newModel(room)
-		for k, c := range randomChanges(source, 150) {
-			do(t, x, c.who, c.text)
-			m.do(c)
-			for range source.Intn(4) {
-				m.step(t, x, source)
-			}
-			if k%10 == 9 {
-				m.check(t, x)
-			}
-		}
-		for range 2 {
-			everyToEvery(t, x, 3)
-		}
-		for i := range 3 {
-			knows(t, x, i, 150)
-			m.known[i] = m.known[0]
-		}
-		for k := range m.events {
-			m.known[0][k] = true
-		}
-		m.check(t, x)
+		m.random(t, x, source, func() {})
+		m.meet(t, x)
+		knows(t, x, 0, 150)
 		if t.Failed() {
 			t.Fatalf("seed %d", seed)
 		}

@@ -47,25 +47,24 @@ func othersThan(i, replicas int) []int {
 	return others
 }
 
-// named: whether numbers are replicas' (P3).
-func (x *Cluster) named(numbers ...int) api.Errno {
+func (x *Cluster) isReplica(i int) bool { return 0 <= i && i < len(x.replicas) }
+
+// up: whether numbers are those of replicas that are up, the first one ahead of
+// the second one (P3).
+func (x *Cluster) up(numbers ...int) api.Errno {
 	for _, i := range numbers {
-		if i < 0 || i >= len(x.replicas) {
+		if !x.isReplica(i) {
 			return api.ErrReplica
+		}
+		if x.replicas[i].IsDown() {
+			return api.ErrDown
 		}
 	}
 	return api.OK
 }
 
-// onlyNamed is what a call answers that does nothing yet but look at the
-// replicas it names.
-func (x *Cluster) onlyNamed(numbers ...int) api.Errno {
-	x.mu.Lock()
-	defer x.mu.Unlock()
-	return x.named(numbers...)
-}
-
-// events is how many events the cluster has had: each replica knows its own.
+// events is how many events the cluster has had: each replica knows its own. One
+// that was torn is not among them until its replica wakes and finds it there (P4).
 func (x *Cluster) events() int {
 	n := 0
 	for _, r := range x.replicas {
@@ -78,7 +77,7 @@ func (x *Cluster) events() int {
 func (x *Cluster) Do(i int, change string) api.Errno {
 	x.mu.Lock()
 	defer x.mu.Unlock()
-	if e := x.named(i); e != api.OK {
+	if e := x.up(i); e != api.OK {
 		return e
 	}
 	c, e := changes.Read(change)
@@ -88,7 +87,9 @@ func (x *Cluster) Do(i int, change string) api.Errno {
 	if x.events() >= api.MaxEvents {
 		return api.ErrFull
 	}
-	x.replicas[i].Accept(c)
+	if !x.replicas[i].Accept(c) {
+		return api.ErrCrashed
+	}
 	return api.OK
 }
 
@@ -96,7 +97,7 @@ func (x *Cluster) Do(i int, change string) api.Errno {
 func (x *Cluster) Ask(i int, path string) (string, api.Errno) {
 	x.mu.Lock()
 	defer x.mu.Unlock()
-	if e := x.named(i); e != api.OK {
+	if e := x.up(i); e != api.OK {
 		return "", e
 	}
 	p, ok := changes.ReadPath(path)
@@ -110,7 +111,7 @@ func (x *Cluster) Ask(i int, path string) (string, api.Errno) {
 func (x *Cluster) Knows(i int) (int, api.Errno) {
 	x.mu.Lock()
 	defer x.mu.Unlock()
-	if e := x.named(i); e != api.OK {
+	if e := x.up(i); e != api.OK {
 		return 0, e
 	}
 	return x.replicas[i].Knows(), api.OK
@@ -120,7 +121,7 @@ func (x *Cluster) Knows(i int) (int, api.Errno) {
 func (x *Cluster) Send(i int, j int) (int, api.Errno) {
 	x.mu.Lock()
 	defer x.mu.Unlock()
-	if e := x.named(i, j); e != api.OK {
+	if e := x.up(i, j); e != api.OK {
 		return 0, e
 	}
 	if i == j {
@@ -165,6 +166,9 @@ func (x *Cluster) Deliver(f int) (int, api.Errno) {
 // come: bytes come to a replica. It answers the number of the acknowledgement
 // that is sent back.
 func (x *Cluster) come(to int, bytes string) (int, api.Errno) {
+	if e := x.up(to); e != api.OK {
+		return 0, e
+	}
 	f, ok := frames.Read(bytes)
 	if !ok {
 		return 0, api.ErrFrame
@@ -176,7 +180,11 @@ func (x *Cluster) come(to int, bytes string) (int, api.Errno) {
 	if x.allSent() {
 		return 0, api.ErrFull
 	}
-	return x.send(f.From, x.replicas[to].Receive(f)), api.OK
+	acknowledgement, ok := x.replicas[to].Receive(f)
+	if !ok {
+		return 0, api.ErrCrashed
+	}
+	return x.send(f.From, acknowledgement), api.OK
 }
 
 // Spoil lets a frame come with a bit turned (P7).
@@ -204,28 +212,53 @@ func turned(bytes string, bit int) string {
 func (x *Cluster) Waiting(i int) (int, api.Errno) {
 	x.mu.Lock()
 	defer x.mu.Unlock()
-	if e := x.named(i); e != api.OK {
+	if e := x.up(i); e != api.OK {
 		return 0, e
 	}
 	return x.replicas[i].Waiting(), api.OK
 }
 
 // Tick drops pieces that all others have acknowledged (P8).
-func (x *Cluster) Tick(i int) api.Errno {
+func (x *Cluster) Tick(i int) api.Errno { return x.let(i, (*replica.Replica).Tick) }
+
+// let: something that has no other error happens to a replica.
+func (x *Cluster) let(i int, happen func(*replica.Replica)) api.Errno {
 	x.mu.Lock()
 	defer x.mu.Unlock()
-	if e := x.named(i); e != api.OK {
+	if e := x.up(i); e != api.OK {
 		return e
 	}
-	x.replicas[i].Tick()
+	happen(x.replicas[i])
 	return api.OK
 }
 
 // Crash lets a replica crash and come up again (P9).
-func (x *Cluster) Crash(i int) api.Errno { return x.onlyNamed(i) }
+func (x *Cluster) Crash(i int) api.Errno { return x.let(i, (*replica.Replica).Crash) }
 
 // Tear lets a replica's next write be cut off (P9).
-func (x *Cluster) Tear(i int, bytes int) api.Errno { return x.onlyNamed(i) }
+func (x *Cluster) Tear(i int, bytes int) api.Errno {
+	x.mu.Lock()
+	defer x.mu.Unlock()
+	if e := x.up(i); e != api.OK {
+		return e
+	}
+	if bytes < 0 {
+		return api.ErrArg
+	}
+	x.replicas[i].Tear(bytes)
+	return api.OK
+}
 
 // Wake lets a replica that is down come up again (P9).
-func (x *Cluster) Wake(i int) api.Errno { return x.onlyNamed(i) }
+func (x *Cluster) Wake(i int) api.Errno {
+	x.mu.Lock()
+	defer x.mu.Unlock()
+	if !x.isReplica(i) {
+		return api.ErrReplica
+	}
+	if !x.replicas[i].IsDown() {
+		return api.ErrUp
+	}
+	x.replicas[i].Wake()
+	return api.OK
+}

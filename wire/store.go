@@ -6,6 +6,11 @@ import (
 	"thicket/dots"
 )
 
+// MostEvents is how many events there can be. An event that was torn is not counted
+// while its replica is down; so where one is left ahead of the bound, each replica
+// may have that one.
+const MostEvents = api.MaxEvents - 1 + api.MaxReplicas
+
 // Store writes a store of effects: the dots that it knows, as runs, and then
 // each effect with its dot.
 func Store(out []byte, s dots.Store[changes.Change]) []byte {
@@ -26,13 +31,13 @@ func dot(out []byte, d dots.Dot) []byte { return Number(Number(out, d.Who), d.Nt
 // Store reads a store of effects.
 func (r *Reader) Store() dots.Store[changes.Change] {
 	var known []dots.Dot
-	for range r.Number(0, api.MaxEvents) {
+	for range r.Number(0, MostEvents) {
 		run := dots.Run{First: r.dot()}
-		run.Many = r.Number(1, api.MaxEvents)
+		run.Many = r.Number(1, MostEvents)
 		known = append(known, run.Dots()...)
 	}
 	effects := map[dots.Dot]changes.Change{}
-	for range r.Number(0, api.MaxEvents) {
+	for range r.Number(0, MostEvents) {
 		d := r.dot()
 		effects[d] = r.effect()
 	}
@@ -41,7 +46,7 @@ func (r *Reader) Store() dots.Store[changes.Change] {
 
 func (r *Reader) dot() dots.Dot {
 	who := r.Number(0, api.MaxReplicas-1)
-	return dots.Dot{Who: who, Nth: r.Number(1, api.MaxEvents)}
+	return dots.Dot{Who: who, Nth: r.Number(1, MostEvents)}
 }
 
 func (r *Reader) effect() changes.Change {

@@ -11,7 +11,10 @@ const (
 	mostBytes = 4
 )
 
-// Number writes a number, from 0 to 2 to the power of 28, less 1.
+// MostNumber is the greatest number that can be written.
+const MostNumber = 1<<(sevenBits*mostBytes) - 1
+
+// Number writes a number, from 0 to MostNumber.
 func Number(out []byte, n int) []byte {
 	for n > lowBits {
 		out = append(out, byte(n&lowBits|more))

@@ -55,7 +55,7 @@ func some(source *rand.Rand, most int) dots.Store[changes.Change] {
 	effects := map[dots.Dot]changes.Change{}
 	var known []dots.Dot
 	for range source.Intn(most + 1) {
-		d := dots.Dot{Who: source.Intn(6), Nth: 1 + source.Intn(500)}
+		d := dots.Dot{Who: source.Intn(6), Nth: 1 + source.Intn(MostEvents)}
 		known = append(known, d)
 		n := source.Intn(2000000001) - 1000000000
 		switch source.Intn(6) {
@@ -93,7 +93,7 @@ func TestStores(t *testing.T) {
 func TestStoresThatAreNone(t *testing.T) {
 	effect := func(text string) string { return string(Text([]byte{0, 1, 0, 1}, text)) }
 	for _, bytes := range []string{
-		"", "\x01", "\x01\x06\x01\x01\x00", "\x01\x00\x00\x01\x00", "\x01\x00\x01\x00\x00", "\x01\x00\xf5\x03\x01\x00", "\x01\x00\x01\xf5\x03\x00", "\xf5\x03\x00",
+		"", "\x01", "\x01\x06\x01\x01\x00", "\x01\x00\x00\x01\x00", "\x01\x00\x01\x00\x00", "\x01\x00\xfa\x03\x01\x00", "\x01\x00\x01\xfa\x03\x00", "\xfa\x03\x00",
 		"\x00\x01\x06\x01\x04sx+a", "\x00\x01\x00\x00\x04sx+a", effect(""), effect("sx"), effect("sx-a"), effect("mx!"), effect("fx_"), effect("sx+A"), effect("cx>01"),
 	} {
 		r := NewReader(bytes)
